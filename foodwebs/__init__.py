@@ -1,0 +1,1 @@
+"""Food webs: who lives, who falls and with whom, told exactly."""
