@@ -1,18 +1,24 @@
 """The calls on one pond's web; answers(calls) is the way in."""
 
-SUN = 0
+from foodwebs.equations import solved
+from foodwebs.walks import SUN, living, needs, one_longer, reached, smallest_cut
+
 MOST_KINDS = 10
 MOST_LINK_NUMBERS = 300
 MOST_WEIGHT = 1000
+LONGEST_CHAIN = 60
 
 WEB = 0
-TOLD = 1
 ALIVE = 2
+WEIGHT = 16
 
 NOT_REFUSED = 0
 NOT_IN_RANGE = -1
 DOES_NOT_LIVE = -5
 EATS_OF_SUN = -6
+NOT_ALL_LIVE = -7
+LAST_KIND = -8
+FOOD_IS_EATER = -9
 
 
 class Pond:
@@ -53,46 +59,43 @@ def eaters_by_food(pond):
     return eaters
 
 
-def living(eaters, gone):
-    """The kinds, going up, that live with these gone."""
-    lives = [False] * len(eaters)
-    waiting = [SUN]
-    while waiting:
-        food = waiting.pop()
-        for eater in eaters[food]:
-            if not lives[eater] and eater not in gone:
-                lives[eater] = True
-                waiting.append(eater)
-    return [kind for kind in range(1, len(eaters)) if lives[kind]]
+def kinds_of(pond):
+    return list(range(1, pond.n + 1))
 
 
-def needs(eaters, k):
-    """The kinds, going up, that k needs; k lives."""
-    others = [kind for kind in range(1, len(eaters)) if kind != k]
-    return [j for j in others if k not in living(eaters, [j])]
+def foods_of(pond, eater):
+    return [food for food in range(pond.n + 1) if (food, eater) in pond.weights]
 
 
-def one_longer(rows, kinds):
-    """Each row with one greater kind behind it, in every way; the order of lists stays."""
-    longer = []
-    for row in rows:
-        for kind in kinds:
-            if not row or kind > row[-1]:
-                longer.append(row + [kind])
+def total_weight(pond, eater):
+    return sum([pond.weights[(food, eater)] for food in foods_of(pond, eater)])
+
+
+def equation(pond, eater, right):
+    """What the eater's fraction has to fulfil: each kind's factor, then the right side."""
+    # The shares are multiplied by the sum of the weights, so that all is whole.
+    row = [-pond.weights.get((food, eater), 0) for food in kinds_of(pond)]
+    row[eater - 1] = total_weight(pond, eater)
+    return row + [right]
+
+
+def one_link_more(pond, counts):
+    """From how many chains come to the sun and each kind: how many with one link more do."""
+    longer = [0] * len(counts)
+    for link in pond.weights:
+        longer[link[1]] += counts[link[0]]
     return longer
 
 
-def smallest_cut(eaters, k):
-    """The first smallest set without k that k falls by; k lives and doesn't eat of the sun."""
-    others = [kind for kind in range(1, len(eaters)) if kind != k]
-    rows = [[]]
-    for size in range(1, len(others)):
-        rows = one_longer(rows, others)
-        for row in rows:
-            if k not in living(eaters, row):
-                return row
-    # With all others gone no food is left to k, as the sun isn't one.
-    return others
+def chains_of_no_link(pond):
+    """How many chains of no link come from the sun to itself and to each kind."""
+    return [1] + [0] * pond.n
+
+
+def listable(pond, listed):
+    """The kinds, going up, that aren't listed and all of whose foods are."""
+    rest = [kind for kind in kinds_of(pond) if kind not in listed]
+    return [kind for kind in rest if all([food in listed for food in foods_of(pond, kind)])]
 
 
 def counted(kinds):
@@ -116,6 +119,10 @@ def refusal_unless_fed_by_kinds(pond, k):
     if refusal == NOT_REFUSED and (SUN, k) in pond.weights:
         return EATS_OF_SUN
     return refusal
+
+
+def all_live(pond):
+    return len(living(eaters_by_food(pond), [])) == pond.n
 
 
 def is_link(n, food, eater, weight):
@@ -210,10 +217,9 @@ def ways(pond, k):
 def worst(pond, m):
     if not 1 <= m <= pond.n:
         return [NOT_IN_RANGE]
-    kinds = list(range(1, pond.n + 1))
     rows = [[]]
     for size in range(m):
-        rows = one_longer(rows, kinds)
+        rows = one_longer(rows, kinds_of(pond))
     eaters = eaters_by_food(pond)
     before = len(living(eaters, []))
     most = -1
@@ -227,7 +233,101 @@ def worst(pond, m):
     return [most] + first
 
 
-ON_ONE_NUMBER = {3: falls, 4: needed, 5: nearest, 6: least, 7: ways, 8: worst}
+def levels(pond):
+    if not all_live(pond):
+        return [NOT_ALL_LIVE]
+    rows = [equation(pond, kind, total_weight(pond, kind)) for kind in kinds_of(pond)]
+    return [pond.n] + solved(rows)
+
+
+def through(pond, j):
+    if not is_kind(pond, j):
+        return [NOT_IN_RANGE]
+    if not all_live(pond):
+        return [NOT_ALL_LIVE]
+    rows = [equation(pond, kind, 0) for kind in kinds_of(pond)]
+    # j's own foods don't count: it is 1 whatever it eats.
+    rows[j - 1] = [1 if kind == j else 0 for kind in kinds_of(pond)] + [1]
+    return [pond.n] + solved(rows)
+
+
+def chains(pond, m):
+    if not 1 <= m <= LONGEST_CHAIN:
+        return [NOT_IN_RANGE]
+    counts = chains_of_no_link(pond)
+    for link in range(m):
+        counts = one_link_more(pond, counts)
+    return [pond.n] + counts[1:]
+
+
+def shortest(pond, k):
+    if not is_kind(pond, k):
+        return [NOT_IN_RANGE]
+    counts = chains_of_no_link(pond)
+    # A shortest chain has no kind twice, so it has at most n links.
+    for length in range(1, pond.n + 1):
+        counts = one_link_more(pond, counts)
+        if counts[k] > 0:
+            return [length]
+    return [0]
+
+
+def together(pond, k):
+    if not is_kind(pond, k):
+        return [NOT_IN_RANGE]
+    eaters = eaters_by_food(pond)
+    behind = reached(eaters, k, [])
+    ring = [kind for kind in behind if kind != k and k in reached(eaters, kind, [])]
+    return counted(sorted(ring + [k]))
+
+
+def order(pond):
+    # With the sun ahead, foods need only be looked for in the list.
+    listed = [SUN]
+    ready = listable(pond, listed)
+    while ready:
+        listed.append(ready[0])
+        ready = listable(pond, listed)
+    return counted(listed[1:])
+
+
+def called_without(k, kind):
+    """What the sun or a kind is called once k is taken out."""
+    return kind - 1 if kind > k else kind
+
+
+def remove(pond, k):
+    if not is_kind(pond, k):
+        return [NOT_IN_RANGE]
+    if pond.n == 1:
+        return [LAST_KIND]
+    kept = {}
+    for link in pond.weights:
+        if k not in link:
+            kept[(called_without(k, link[0]), called_without(k, link[1]))] = pond.weights[link]
+    pond.n -= 1
+    pond.weights = kept
+    return [pond.n]
+
+
+def weigh(pond, f, e, w):
+    if not 0 <= f <= pond.n or not is_kind(pond, e) or not 0 <= w <= MOST_WEIGHT:
+        return [NOT_IN_RANGE]
+    if f == e:
+        return [FOOD_IS_EATER]
+    before = 1 if (f, e) in pond.weights else 0
+    if w > 0:
+        pond.weights[(f, e)] = w
+    elif before == 1:
+        pond.weights.pop((f, e))
+    return [before]
+
+
+ON_NO_NUMBER = {1: told, 9: levels, 14: order}
+ON_ONE_NUMBER = {
+    3: falls, 4: needed, 5: nearest, 6: least, 7: ways, 8: worst,
+    10: through, 11: chains, 12: shortest, 13: together, 15: remove,
+}
 
 
 def answer_next(pond, reader):
@@ -235,10 +335,15 @@ def answer_next(pond, reader):
     if number == WEB:
         n = reader.next_number()
         return web(pond, n, reader.next_row())
-    if number == TOLD:
-        return told(pond)
     if number == ALIVE:
         return alive(pond, reader.next_row())
+    if number == WEIGHT:
+        f = reader.next_number()
+        e = reader.next_number()
+        return weigh(pond, f, e, reader.next_number())
+    if number in ON_NO_NUMBER:
+        call = ON_NO_NUMBER[number]
+        return call(pond)
     call = ON_ONE_NUMBER[number]
     return call(pond, reader.next_number())
 

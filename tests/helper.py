@@ -4,7 +4,9 @@ The second reckoning goes by the document's words alone: it lists the chains
 from the sun and asks them, where the program walks the web.
 """
 
+from fractions import Fraction
 from itertools import combinations
+from math import gcd
 
 from foodwebs.pond import answers
 
@@ -48,6 +50,38 @@ def worst(m):
     return [8, m]
 
 
+def levels():
+    return [9]
+
+
+def through(j):
+    return [10, j]
+
+
+def chains(m):
+    return [11, m]
+
+
+def shortest(k):
+    return [12, k]
+
+
+def together(k):
+    return [13, k]
+
+
+def order():
+    return [14]
+
+
+def remove(k):
+    return [15, k]
+
+
+def weight(f, e, w):
+    return [16, f, e, w]
+
+
 def split(given):
     """The answers of a line, each a list of its own."""
     rows = []
@@ -83,8 +117,49 @@ def possible_pairs(n):
     return [(food, eater) for food in range(n + 1) for eater in range(1, n + 1) if food != eater]
 
 
+def scattered_numbers(count, seed=12345):
+    """So many numbers from 0 to 2 ** 31 - 1, the same each time."""
+    state = seed
+    numbers = []
+    for place in range(count):
+        state = (state * 6364136223846793005 + 1442695040888963407) % 2 ** 64
+        numbers.append(state >> 33)
+    return numbers
+
+
+def fractions_in(row):
+    """The fractions that levels or through answer; fails unless they are told as the words tell it."""
+    if len(row) != 1 + 2 * row[0]:
+        raise AssertionError("not a fraction for each kind: %r" % (row,))
+    told_fractions = list(zip(row[1::2], row[2::2]))
+    for numerator, denominator in told_fractions:
+        if denominator < 1 or gcd(numerator, denominator) != 1:
+            raise AssertionError("not in lowest terms: %r" % (row,))
+    return [Fraction(*pair) for pair in told_fractions]
+
+
+def fed(weights, eater, values):
+    """The sum, over the kinds that it eats, of share times their value."""
+    total = sum(w for (food, other), w in weights.items() if other == eater)
+    return sum(Fraction(w, total) * values[food - 1]
+               for (food, other), w in weights.items() if other == eater and food != 0)
+
+
+def fits_levels(n, weights, row):
+    """Whether the row fulfils the words' equations of the levels; there's just one that does."""
+    values = fractions_in(row)
+    return len(values) == n and all(values[k - 1] == 1 + fed(weights, k, values) for k in range(1, n + 1))
+
+
+def fits_through(n, weights, j, row):
+    values = fractions_in(row)
+    if len(values) != n or values[j - 1] != 1:
+        return False
+    return all(values[k - 1] == fed(weights, k, values) for k in range(1, n + 1) if k != j)
+
+
 class Reckoning:
-    """The answers 2 to 8, from all chains from the sun without a kind twice."""
+    """The answers 2 to 8 and 11 to 14; most from all chains from the sun without a kind twice."""
 
     def __init__(self, n, pairs):
         self.n = n
@@ -159,6 +234,34 @@ class Reckoning:
             if best is None or fallen > best[0]:
                 best = [fallen] + list(row)
         return best
+
+
+    def count_chains(self, m):
+        ends = [0]
+        for link in range(m):
+            ends = [eater for end in ends for food, eater in self.pairs if food == end]
+        return [self.n] + [ends.count(k) for k in range(1, self.n + 1)]
+
+    def shortest(self, k):
+        return [min((len(chain) for chain in self.chains[k]), default=0)]
+
+    def together(self, k):
+        comes = set(self.pairs)
+        for middle in range(1, self.n + 1):
+            comes |= {(a, b) for a, c in comes if c == middle for d, b in comes if d == middle}
+        row = [j for j in range(1, self.n + 1) if j == k or {(j, k), (k, j)} <= comes]
+        return [len(row)] + row
+
+    def order(self):
+        row = []
+        while True:
+            for kind in range(1, self.n + 1):
+                foods = {food for food, eater in self.pairs if eater == kind}
+                if kind not in row and foods <= {0, *row}:
+                    row.append(kind)
+                    break
+            else:
+                return [len(row)] + row
 
 
 def most_apart(sets):

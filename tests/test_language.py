@@ -65,6 +65,7 @@ class Files(unittest.TestCase):
         names = [str(path.relative_to(PACKAGE)) for path in files()]
         self.assertIn("__init__.py", names)
         self.assertIn("pond.py", names)
+        self.assertNotIn("__main__.py", names)
         for name in names:
             self.assertRegex(name, r"^(__init__|[a-z][a-z0-9_]*)\.py$")
 
@@ -94,6 +95,32 @@ class Code(unittest.TestCase):
             if isinstance(node, ast.ImportFrom):
                 self.assertEqual(node.level, 0)
                 self.assertTrue(node.module.startswith("foodwebs."), node.module)
+
+    def test_imports_come_from_the_file_that_defines_the_name_and_in_no_ring(self):
+        drawn = {path.stem: set() for path in files()}
+        for path, node in walked():
+            if isinstance(node, ast.ImportFrom):
+                stem = node.module.partition(".")[2]
+                drawn[path.stem].add(stem)
+                tree = ast.parse(source(PACKAGE / (stem + ".py")))
+                defined = {inner.name for inner in tree.body if isinstance(inner, (ast.FunctionDef, ast.ClassDef))}
+                self.assertLessEqual({alias.name for alias in node.names}, defined | set(top_values(tree)))
+        left = dict(drawn)
+        while left:
+            free = [stem for stem, others in left.items() if not others & set(left)]
+            self.assertNotEqual(free, [], "files draw from one another")
+            left = {stem: others for stem, others in left.items() if stem not in free}
+
+    def test_no_local_is_called_like_an_import_a_class_or_a_function_of_its_file(self):
+        for path in files():
+            tree = ast.parse(source(path))
+            taken = {alias.name for node in tree.body if isinstance(node, ast.ImportFrom) for alias in node.names}
+            taken |= {node.name for node in tree.body if isinstance(node, (ast.ClassDef, ast.FunctionDef))}
+            for node in ast.walk(tree):
+                if isinstance(node, ast.arg):
+                    self.assertNotIn(node.arg, taken)
+                if isinstance(node, ast.Name) and isinstance(node.ctx, ast.Store):
+                    self.assertNotIn(node.id, taken)
 
     def test_names(self):
         for path, node in walked():
@@ -149,12 +176,14 @@ class Code(unittest.TestCase):
                 if isinstance(node, ast.Expr):
                     self.assertIsInstance(node.value, ast.Constant)
 
-    def test_lists_and_dicts_of_a_file_s_top_are_only_indexed(self):
+    def test_lists_and_dicts_of_a_file_s_top_are_only_indexed_or_asked_with_in(self):
         for path in files():
             tree = ast.parse(source(path))
             kept = {name for name, value in top_values(tree).items() if isinstance(value, (ast.List, ast.Dict))}
             indexed = {id(node.value) for node in ast.walk(tree)
                        if isinstance(node, ast.Subscript) and isinstance(node.ctx, ast.Load)}
+            indexed |= {id(node.comparators[0]) for node in ast.walk(tree)
+                        if isinstance(node, ast.Compare) and isinstance(node.ops[0], (ast.In, ast.NotIn))}
             for node in ast.walk(tree):
                 if isinstance(node, ast.Name) and node.id in kept and isinstance(node.ctx, ast.Load):
                     self.assertIn(id(node), indexed, node.id)

@@ -2,7 +2,9 @@
 
 import unittest
 
-from tests.helper import Reckoning, alive, ask, falls, least, nearest, needed, possible_pairs, told, ways, web, worst
+from tests.helper import Reckoning, alive, ask, chains, falls, fits_levels, fits_through, least, levels, nearest
+from tests.helper import needed, order, possible_pairs, scattered_numbers, shortest, through, together, told, ways
+from tests.helper import web, worst
 
 
 def lists_of_kinds(n):
@@ -19,6 +21,11 @@ def calls_and_answers(n, pairs):
         both.append((least(k), reckoning.least(k)))
         both.append((ways(k), reckoning.ways(k)))
         both.append((worst(k), reckoning.worst(k)))
+        both.append((shortest(k), reckoning.shortest(k)))
+        both.append((together(k), reckoning.together(k)))
+    both.append((order(), reckoning.order()))
+    for m in range(1, 5):
+        both.append((chains(m), reckoning.count_chains(m)))
     return both
 
 
@@ -28,13 +35,12 @@ def pairs_by_bits(n, bits):
 
 def scattered(count, bits):
     """So many numbers of so many bits, the same each time, about a third of their bits set."""
-    state = 12345
+    numbers = scattered_numbers(count * bits)
     rows = []
     for place in range(count):
         row = 0
-        for bit in range(bits):
-            state = (state * 6364136223846793005 + 1442695040888963407) % 2 ** 64
-            row = row * 2 + (1 if (state >> 33) % 3 == 0 else 0)
+        for number in numbers[place * bits:(place + 1) * bits]:
+            row = row * 2 + (1 if number % 3 == 0 else 0)
         rows.append(row)
     return rows
 
@@ -48,6 +54,17 @@ class SmallWebs(unittest.TestCase):
         for (call, want), got in zip(both, given[1:]):
             self.assertEqual(got, want, (n, pairs, call))
         self.assertEqual(given[-1], [n, len(pairs)] + links)
+        self.check_fractions(n, links)
+
+    def check_fractions(self, n, links):
+        weights = {(food, eater): w for food, eater, w in zip(links[::3], links[1::3], links[2::3])}
+        given = ask(web(n, links), alive([]), levels(), *[through(j) for j in range(1, n + 1)])
+        if given[1][0] < n:
+            self.assertEqual(given[2:], [[-7]] * (n + 1))
+            return
+        self.assertTrue(fits_levels(n, weights, given[2]), (n, links, given[2]))
+        for j in range(1, n + 1):
+            self.assertTrue(fits_through(n, weights, j, given[2 + j]), (n, links, j, given[2 + j]))
 
     def test_every_web_of_up_to_three_kinds(self):
         for n in (1, 2, 3):
